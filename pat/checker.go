@@ -2,15 +2,15 @@ package pat
 
 import (
 	"slices"
-	"strings"
 
 	"marginalia/api"
+	"marginalia/ident"
 	"marginalia/stx"
 )
 
 // checker makes shapes of patterns, and gathers the variables in them.
 type checker struct {
-	literals []api.Stx // in order
+	literals ident.Finder
 	vars     []api.Bind
 }
 
@@ -21,8 +21,7 @@ func (c *checker) check(pattern api.Stx, literals []api.Stx) (*shape, api.Errno)
 	if e != api.OK || slices.ContainsFunc(literals, strange) {
 		return nil, api.ErrForm
 	}
-	c.literals = slices.Clone(literals)
-	slices.SortFunc(c.literals, order)
+	c.literals = ident.Of(literals...)
 	whole, ok := c.shape(flat, 0)
 	if !ok || c.twice() {
 		return nil, api.ErrSyntax
@@ -71,7 +70,7 @@ func (c *checker) group(p api.Stx, depth int) (shape, bool) {
 
 // literal tells if the Symbol id is Bound as one of the literals.
 func (c *checker) literal(id api.Stx) bool {
-	_, found := slices.BinarySearchFunc(c.literals, id, order)
+	_, found := c.literals.Find(id)
 	return found
 }
 
@@ -82,22 +81,11 @@ func (c *checker) ellipsis(p api.Stx) bool {
 
 // twice tells if two of the variables are Bound as one another.
 func (c *checker) twice() bool {
-	sorted := slices.Clone(c.vars)
-	slices.SortFunc(sorted, func(a, b api.Bind) int { return order(a.Name, b.Name) })
-	for i := 1; i < len(sorted); i++ {
-		if order(sorted[i-1].Name, sorted[i].Name) == 0 {
-			return true
-		}
+	var names []api.Stx
+	for _, v := range c.vars {
+		names = append(names, v.Name)
 	}
-	return false
-}
-
-// order tells which of two identifiers goes ahead; neither does, if they are Bound as one another. So one of many is found without being held against each.
-func order(a, b api.Stx) int {
-	if names := strings.Compare(a.Text, b.Text); names != 0 {
-		return names
-	}
-	return slices.Compare(a.Marks, b.Marks)
+	return ident.Of(names...).Twice()
 }
 
 // isTail tells if what stands in x at that place stands behind its dot.
